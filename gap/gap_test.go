@@ -290,14 +290,15 @@ func TestAllSmallLines(t *testing.T) { // P10.1 to P10.5, R2
 	}
 }
 
-func TestLinesOfAllLengths(t *testing.T) { // P10.1 to P10.5: up to 200 signs, and the point at each place
+func TestLinesOfAllLengths(t *testing.T) { // P10.1 to P10.5
 	for n := 0; n <= mostSigns; n++ {
 		l := some(n)
-		step := 1
-		if n > 8 && n < mostSigns-1 {
-			step = 23
-		}
-		for at := 0; at <= n; at += step {
+		// The point is at each place of the shortest and the longest lines; of the others at both ends, and some between, to save time.
+		isEachPlace := n <= 8 || n >= mostSigns-1
+		for at := range n + 1 {
+			if !isEachPlace && at%23 != 0 && at != n {
+				continue
+			}
 			room := mostSigns - n
 			ins := [][]rune{nil, some(1), some(max(room-1, 0)), some(room), some(room + 1)}
 			ns := []int{-at - 1, -at, -at + 1, at - 1, at, at + 1, n - at - 1, n - at, n - at + 1, n, n + 1}
